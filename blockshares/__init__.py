@@ -1,0 +1,1 @@
+"""Folders that share their blocks, and what sizes tell of them."""
