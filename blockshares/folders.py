@@ -1,6 +1,6 @@
 """Folders in an order, and their lots."""
 
-from blockshares.errors import BadFolders
+from blockshares.errors import BadFolders, NoFolder
 from blockshares.values import is_list, is_name
 
 MOST_FOLDERS = 5
@@ -45,14 +45,17 @@ def first_wrong(names, most):
     return None
 
 
-def choices(names):
-    """The list of all choices of one or more of the names, in the order of lots."""
-    rows = [(at,) for at in range(len(names))]
-    found = list(rows)
-    while len(rows) > 0:
-        rows = [row + (at,) for row in rows for at in range(row[-1] + 1, len(names))]
-        found = found + rows
-    return [tuple([names[at] for at in row]) for row in found]
+def choices(things):
+    """The list of all choices of one or more of some things, in the order of lots."""
+    return [choice for many in range(1, len(things) + 1) for choice in choices_of(things, many)]
+
+
+def choices_of(things, many):
+    """The list of all choices of so many of some things, in the order of lots."""
+    rows = [()]
+    for k in range(many):
+        rows = [row + (at,) for row in rows for at in range(row[-1] + 1 if k > 0 else 0, len(things))]
+    return [tuple([things[at] for at in row]) for row in rows]
 
 
 def rows_of_neighbours(names):
@@ -68,3 +71,13 @@ def lot_of(folders, thing):
     lot = tuple([name for name in folders.names if name in thing])
     # What is no folder, or stands twice, makes the list longer than the lot.
     return lot if len(lot) == len(thing) and lot in folders.places else None
+
+
+def check_named(folders, names):
+    """Refuses names if one of them is none of the folders."""
+    # The document names no error for what is no list here: it is refused as a folder.
+    if not is_list(names):
+        raise NoFolder(names)
+    for name in names:
+        if name not in folders:
+            raise NoFolder(name)

@@ -1,7 +1,7 @@
 """Stores: a size for each lot of some folders."""
 
 from blockshares.errors import BadFolders, BadLot, BadName, BadSize, Lacking, NoFolder, NotStore, Taken, UnlikeFolders
-from blockshares.folders import Folders, choices, lot_of
+from blockshares.folders import Folders, check_named, choices, lot_of
 from blockshares.values import NOTHING, is_less, is_list, is_name, minus, plus, size_of, sum_of, times
 
 
@@ -203,9 +203,7 @@ def check_names(folders, names):
     # The document names no error for what is no list here: it is refused as Folders refuses it.
     if not is_list(names):
         raise BadFolders(0)
-    for name in names:
-        if name not in folders:
-            raise NoFolder(name)
+    check_named(folders, names)
 
 
 def check_new_name(folders, name, new):

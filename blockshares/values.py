@@ -76,3 +76,12 @@ def sum_of(fractions):
     for each in fractions:
         total = plus(total, each)
     return total
+
+
+def shortened(numbers):
+    """The integers, each divided by the greatest one that divides them all."""
+    divisor = 0
+    for number in numbers:
+        if number != 0:
+            divisor = greatest_divisor(abs(number), divisor)
+    return [number // divisor for number in numbers] if divisor > 1 else list(numbers)

@@ -2,6 +2,7 @@
 
 import unittest
 
+from blockshares.books import Book
 from blockshares.errors import BadLot, ShareError
 from blockshares.folders import Folders
 from blockshares.questions import Question
@@ -16,6 +17,7 @@ def any_objects():
         [], (), [[]], ((),), [None], (True, 1), [1, 0], [1, -1], (-1, 2), [1, 2, 3], ("a", 1), [["a"]], (1, False),
         {}, {"a": 1}, {("a",): 1}, [{}], ("a", "a"), ["a", "zz"], [("a",), "b"],
         z, Store(z), Store(z, {("z",): 3}), Question(z), Question(z, {("z",): 1}), ShareError(), BadLot("a"), [z], (z,),
+        Book(z), [Book(z)],
     ]
 
 
