@@ -5,6 +5,8 @@ import unittest
 from blockshares.books import Book
 from blockshares.errors import BadLot, ShareError
 from blockshares.folders import Folders
+from blockshares.histories import History
+from blockshares.keeping import Keeper
 from blockshares.questions import Question
 from blockshares.stores import Store
 
@@ -17,7 +19,7 @@ def any_objects():
         [], (), [[]], ((),), [None], (True, 1), [1, 0], [1, -1], (-1, 2), [1, 2, 3], ("a", 1), [["a"]], (1, False),
         {}, {"a": 1}, {("a",): 1}, [{}], ("a", "a"), ["a", "zz"], [("a",), "b"],
         z, Store(z), Store(z, {("z",): 3}), Question(z), Question(z, {("z",): 1}), ShareError(), BadLot("a"), [z], (z,),
-        Book(z), [Book(z)],
+        Book(z), [Book(z)], History(z), Keeper(Store(z)), Book(z).least(Question(z)), History(z).least(Question(z)),
     ]
 
 

@@ -159,6 +159,23 @@ class Form(unittest.TestCase):
         for path, node in nodes(ast.AugAssign):
             self.assertTrue(isinstance(node.value, ast.Constant), f"{path.name}:{node.lineno}")
 
+    def test_methods_that_builtin_values_have_get_no_keywords(self):
+        self.none([(path, node) for path, node in nodes(ast.Call)
+                   if isinstance(node.func, ast.Attribute) and node.func.attr in METHODS and node.keywords])
+
+    def test_what_is_iterated_at_once(self):
+        for path in FILES:
+            used = set()
+            for node in ast.walk(TREES[path]):
+                if isinstance(node, (ast.For, ast.comprehension)):
+                    used.add(node.iter)
+                if isinstance(node, ast.Call) and isinstance(node.func, ast.Name):
+                    used.update(node.args[:1] if node.func.id in ("list", "tuple", "dict", "enumerate") else [])
+            calls = [node for node in ast.walk(TREES[path]) if isinstance(node, ast.Call) and (
+                getattr(node.func, "id", "") in ("zip", "enumerate", "range")
+                or getattr(node.func, "attr", "") in ("items", "values"))]
+            self.none([(path, node) for node in calls if node not in used])
+
     def test_errors_are_created_where_they_are_raised(self):
         self.none([(path, node) for path, node in nodes(ast.Raise) if not isinstance(node.exc, ast.Call)])
 

@@ -3,10 +3,12 @@
 import inspect
 import unittest
 
-from blockshares import asking, books, folders, questions, stores
+from blockshares import asking, books, folders, histories, keeping, questions, stores, striking, texts
 from blockshares.asking import Combination, Reason, combination, reason
 from blockshares.books import Book, Bound
 from blockshares.folders import Folders
+from blockshares.histories import History, Span
+from blockshares.keeping import Keeper
 from blockshares.questions import Question, freed, refers, shared, whole
 from blockshares.stores import Store
 
@@ -34,6 +36,17 @@ CLASSES = (
     (Bound, books, {}),
     (Combination, asking, {}),
     (Reason, asking, {}),
+    (History, histories, {
+        "__init__": "(self, folders)", "write": "(self, name)", "leave": "(self, name)", "copy": "(self, name, new)",
+        "strike": "(self, names)", "folders_at": "(self, moment)", "threads": "(self)", "told": "(self)",
+        "store_at": "(self, life, moment=None)", "fits": "(self)", "wrong": "(self)",
+        "least": "(self, question, moment=None)", "greatest": "(self, question, moment=None)",
+        "grows": "(self, question, moment=None)", "__getitem__": None, "__setitem__": None, "__len__": "(self)"}),
+    (Span, histories, {}),
+    (Keeper, keeping, {
+        "__init__": "(self, store)", "present": "(self)", "hold": "(self, name, question)", "drop": "(self, name)",
+        "kept": "(self)", "answer": "(self, name)", "do": "(self, deed)", "undo": "(self)", "again": "(self)",
+        "deeds": "(self)", "would": "(self, deeds)"}),
 )
 
 FUNCTIONS = (
@@ -43,6 +56,10 @@ FUNCTIONS = (
     (asking, {
         "combination": "(asked, question)", "unsettled": "(asked, question)", "least_choices": "(asked, question)",
         "reason": "(book, asked, question)", "doubtful": "(book, asked, question)"}),
+    (striking, {
+        "strikes": "(store, names)", "fewest_struck": "(book, size, *, sure=True)",
+        "most_freed": "(book, count, *, sure=True)"}),
+    (texts, {"text_of": "(thing)", "read": "(text)"}),
 )
 
 
@@ -85,6 +102,15 @@ class Interface(unittest.TestCase):
         self.assertEqual((found.numbers, found.divisor), ([1], 1))
         found = reason(book, [everything], everything)
         self.assertEqual((found.numbers, found.tellings, found.empty, found.divisor), ([1], {}, {}, 1))
+
+    def test_attributes_of_histories(self):
+        house = Folders(["a", "b"])
+        history = History(house)
+        self.assertEqual(history.folders, house)
+        span = history.least(whole(house))
+        self.assertEqual((span.value, span.life, span.weights, span.times), ((0, 1), {}, [], 1))
+        history.copy("a", "c")
+        self.assertEqual(history.folders, Folders(["a", "c", "b"]))
 
     def test_the_example(self):
         house = Folders(["a", "b"])

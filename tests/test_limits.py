@@ -3,13 +3,18 @@
 import random
 import unittest
 
-from papers import PaperCase, answer, fitting
+from lives import LifeCase, do, history_of, life_fits
+from papers import PaperCase, answer, book_of, fitting
 
 from blockshares.asking import combination, doubtful, least_choices, reason, unsettled
 from blockshares.books import Book
 from blockshares.folders import Folders
+from blockshares.histories import History
+from blockshares.keeping import Keeper
 from blockshares.questions import Question, freed, just, refers, sent, shared, whole
 from blockshares.stores import Store
+from blockshares.striking import fewest_struck, most_freed, strikes
+from blockshares.texts import read, text_of
 
 FIVE = Folders(list("abcde"))
 CHAIN = Folders(list("abcdefghijkl"), chain=True)
@@ -174,9 +179,104 @@ class Asking(PaperCase):
                 settled += found is not None
                 if pair is not None:
                     self.assertTrue(fitting(book, pair[0]) and fitting(book, pair[1]))
-                    self.assertEqual([answer(pair[0], each) for each in asked], [answer(pair[1], each) for each in asked])
+                    one, other = [[answer(store, each) for each in asked] for store in pair]
+                    self.assertEqual(one, other)
                     self.assertNotEqual(answer(pair[0], question), answer(pair[1], question))
         self.assertTrue(0 < settled < 16)
+
+
+class Striking(PaperCase):
+
+    def test_books_of_many_tellings(self):
+        for seed, (folders, made, many, most) in enumerate([
+                (folders, made, many, most) for folders in (Folders(list("dbca")), Folders(list("ebdca"), chain=True))
+                for many, most in ((24, BIG), (10, HUGE)) for made in (by_weights, by_functions, nearly_alike)]):
+            book, store = some_book(folders, made, many, most, seed)
+            gone = strikes(store, folders.names)
+            for count in range(len(folders) + 1):
+                choice, value = most_freed(book, count)
+                self.check_bound(book, freed(folders, choice), book.least(freed(folders, choice)), -1)
+                self.assertEqual(book.least(freed(folders, choice)).value, value)
+                # So much is freed by these, and by fewer perhaps.
+                self.assertLessEqual(len(fewest_struck(book, value)[0]), count)
+                self.assertEqual(strikes(store, folders.names[:count]), gone[:count])
+                choice, value = most_freed(book, count, sure=False)
+                greatest = book.greatest(freed(folders, choice))
+                self.assertEqual(value, None if greatest is None else greatest.value)
+
+
+class Histories(LifeCase):
+
+    def plans(self):
+        """Five deeds of histories that come to have many threads."""
+        yield [("leave", name) for name in "abcab"]
+        yield [("copy", "a", "d")] + [("leave", name) for name in "adbc"]
+        yield [("write", "a"), ("leave", "a"), ("write", "a"), ("leave", "a"), ("write", "b")]
+        yield [("leave", "b"), ("copy", "b", "abcdefgh"), ("leave", "b"), ("strike", ["c"]), ("leave", "abcdefgh")]
+
+    def test_twelve_tellings(self):
+        most = 0
+        for folders in (THREE, Folders(list("abc"), chain=True)):
+            for seed, deeds in enumerate(self.plans()):
+                for made in (by_weights, by_functions, nearly_alike, multiples):
+                    most = max(most, self.check_history(folders, deeds, made, random.Random(seed)))
+        self.assertGreater(most, 40)
+
+    def check_history(self, folders, deeds, made, chance):
+        threads = history_of(folders, deeds).threads()
+        life = {thread: chance.choice([0, chance.randrange(HUGE)]) for thread in threads}
+        history = History(folders)
+        for moment in range(6):
+            if moment > 0:
+                do(history, deeds[moment - 1])
+            for question in (made(history.folders, chance, HUGE), made(history.folders, chance, HUGE)):
+                size = int(answer(history.store_at(life, moment), question))
+                history[question] = some_ends(size, chance, HUGE)
+        self.assertIsNone(history.wrong())
+        found = history.fits()
+        self.assertTrue(life_fits(history, found))
+        for moment in range(6):
+            there = history.folders_at(moment)
+            for question in (whole(there), by_weights(there, chance, 9)):
+                self.check_moment(history, question, moment, found)
+        total = Question(history.folders)
+        for moment, question, low, high in history.told():
+            if moment == 5:
+                total = total + question * 3
+        history[total] = int(answer(history.store_at(life), total))
+        history[total * 2] = (None, 2 * int(answer(history.store_at(life), total)) - 1)
+        self.assertIsNone(history.fits())
+        self.check_no_life(history, history.wrong())
+        return len(threads)
+
+
+class Keeping(PaperCase):
+
+    def test_fourteen_deeds(self):
+        keeper = Keeper(Store(CHAIN, {lot: (HUGE - at, HUGE) for at, lot in enumerate(CHAIN.lots())}))
+        keeper.hold("all", whole(CHAIN) * HUGE)
+        start = keeper.present()
+        news = [keeper.do(("write", name, HUGE)) for name in "abcdefghijkl"]
+        self.assertEqual({len(each) for each in news}, {1})
+        self.assertEqual(keeper.do(["strike", list("bdfh")]), [("all", None)])
+        self.assertEqual(keeper.do(("copy", "a", "new")), [])
+        five = [("rename", "new", "b"), ("strike", ["a"]), ("rename", "b", "x"), ("write", "c", 1), ("copy", "c", "d")]
+        self.assertEqual(keeper.would(five), [])
+        self.assertEqual(len(keeper.deeds()), 14)
+        for k in range(14):
+            keeper.undo()
+        self.assertEqual((keeper.present(), keeper.deeds()), (start, []))
+
+
+class Texts(PaperCase):
+
+    def test_33_lines(self):
+        most = int("9" * 40)
+        store = Store(FIVE, {lot: (most - at, most) for at, lot in enumerate(FIVE.lots())})
+        self.assertEqual((text_of(store).count("\n"), read(text_of(store))), (32, store))
+        book = book_of(CHAIN, [
+            (by_weights(CHAIN, random.Random(at), most), -most, most - at) for at in range(32)])
+        self.assertEqual((text_of(book).count("\n"), read(text_of(book)).told()), (33, book.told()))
 
 
 if __name__ == "__main__":
